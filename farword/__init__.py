@@ -1,0 +1,1 @@
+"""Farword: a spacecraft's computer and its ground."""

@@ -1,0 +1,73 @@
+"""Books that several tests use."""
+
+from farword.books import Book
+
+PARTS = ("holds", "modes", "barred", "commands", "alarms", "rows", "quiet")
+
+SMALLEST = {
+    "holds": ["a"],
+    "modes": [("m", (), ())],
+    "barred": [],
+    "commands": [],
+    "alarms": [],
+    "rows": [],
+    "quiet": None,
+}
+
+PLAIN = {
+    "holds": ["heat", "cam", "radio"],
+    "modes": [("safe", ("radio",), ("cam", "heat")), ("work", ("cam",), ("heat",)), ("idle", (), ())],
+    "barred": [("heat", "radio"), ("cam", "heat")],
+    "commands": [
+        ("warm", ("safe",), ("heat",), ("cam",), None),
+        ("go", ("idle", "safe"), (), (), "work"),
+        ("off", (), (), ("heat",), "safe"),
+    ],
+    "alarms": [("low", (), ("cam",), "safe"), ("cold", ("heat",), (), None)],
+    "rows": [("plan", ((2, "go"), (1, "warm"))), ("again", ((9, "go"),))],
+    "quiet": 4,
+}
+
+PLAIN_TEXT = "\n".join([
+    "holds cam,heat,radio",
+    "mode safe radio cam,heat",
+    "mode work cam heat",
+    "mode idle - -",
+    "barred cam,heat",
+    "barred heat,radio",
+    "command go idle,safe - - work",
+    "command off - - heat safe",
+    "command warm safe heat cam -",
+    "alarm low - cam safe",
+    "alarm cold heat - -",
+    "row plan 2:go 1:warm",
+    "row again 9:go",
+    "quiet 4",
+])
+
+LONG = "abcdefghij"
+HOLDS = tuple(f"{LONG}h{k}" for k in range(6))
+MODES = tuple(f"{LONG}m{k}" for k in range(5))
+COMMANDS = tuple(f"{LONG}c{k}" for k in range(8))
+
+# Each part is as large as it can be, and each name as long.
+FULL = {
+    "holds": list(HOLDS),
+    "modes": [(name, HOLDS[:3], HOLDS[3:]) for name in MODES],
+    "barred": [(HOLDS[k], HOLDS[k + 1]) for k in range(5)] + [HOLDS[:3], HOLDS[1:], HOLDS],
+    "commands": [(name, MODES, HOLDS[:k % 6], HOLDS[k % 6:], MODES[k % 5]) for k, name in enumerate(COMMANDS)],
+    "alarms": [(f"{LONG}a{k}", HOLDS, (), MODES[k]) for k in range(4)],
+    "rows": [(f"{LONG}r{k}", tuple((9, COMMANDS[k + at]) for at in range(4))) for k in range(3)],
+    "quiet": 30,
+}
+
+
+def made(parts, **changes):
+    """The book with these parts, some of them changed."""
+    told = {**parts, **changes}
+    return Book(*[told[name] for name in PARTS])
+
+
+def parts_of(book):
+    """All parts of a book by their names."""
+    return {name: getattr(book, name) for name in PARTS}
