@@ -294,8 +294,8 @@ class WithPartTest(unittest.TestCase):
 
     def test_one_part_too_many(self):
         full = made(FULL)
-        for sort, part in (("mode", ("x", (), ())), ("command", ("x", (), (), (), None)), ("alarm", ("x", (), (), None)),
-                           ("row", ("x", ((1, COMMANDS[0]),)))):
+        for sort, part in (("mode", ("x", (), ())), ("command", ("x", (), (), (), None)),
+                           ("alarm", ("x", (), (), None)), ("row", ("x", ((1, COMMANDS[0]),)))):
             with self.assertRaises(InvalidBook):
                 full.with_part(sort, part)
         changed = full.with_part("mode", (MODES[4], (), ()))

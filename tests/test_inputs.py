@@ -10,10 +10,11 @@ from tests.samples import FULL, PLAIN, SMALLEST, made
 ORDERS = [("do", "go"), ("do", "off"), ("do", "warm"), ("run", "plan"), ("run", "again"), ("stop",)]
 NO_ORDERS = [(), ("do",), ("run",), ("stop", "go"), ("stop", ""), ("do", "plan"), ("run", "go"), ("do", "hop"),
              ("run", "hop"), ("do", "go", "go"), ("run", "plan", ""), ("go",), ("", "go"), ("", "plan"), ("wait",),
-             ("stop", "plan"), ("Do", "go"), ("do", ""), ("run", "safe"), ("do", "low"), ("stop", "stop"), ("hop", "go"),
-             ("hop", "plan")]
+             ("stop", "plan"), ("Do", "go"), ("do", ""), ("run", "safe"), ("do", "low"), ("stop", "stop"),
+             ("hop", "go"), ("hop", "plan")]
 LOTS = [(), ("cold",), ("low",), ("cold", "low")]
-NO_LOTS = [("low", "cold"), ("low", "low"), ("hot",), ("cold", "hot"), ("",), ("cold", ""), ("safe",), ("go",), ("Low",)]
+NO_LOTS = [("low", "cold"), ("low", "low"), ("hot",), ("cold", "hot"), ("",), ("cold", ""), ("safe",), ("go",),
+           ("Low",)]
 
 
 class OrdersTest(unittest.TestCase):

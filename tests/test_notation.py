@@ -142,7 +142,8 @@ class WrongBooksTest(unittest.TestCase):
 
     def test_lines_behind_one_of_their_sort(self):
         for at, line in ((2, "mode x - -"), (5, "mode x - -"), (5, "barred cam,radio"), (7, "barred cam,radio"),
-                         (7, "command x - - - -"), (10, "command x - - - -"), (12, "alarm x - - -"), (14, "row x 1:go")):
+                         (7, "command x - - - -"), (10, "command x - - - -"), (12, "alarm x - - -"),
+                         (14, "row x 1:go")):
             self.assertIn(line, format_book(parse_book(text_plus(at, line))).split("\n"))
 
     def test_one_line_of_holds_and_one_of_quiet(self):
@@ -154,19 +155,25 @@ class WrongBooksTest(unittest.TestCase):
     def test_lines_of_another_form(self):
         wrong = {
             1: ["holds", "holds ", "holds  cam,heat,radio", "holds cam,heat,radio ", " holds cam,heat,radio", "holds -",
-                "holds cam heat radio", "holds cam,heat,radio,", "holds ,cam", "holds cam,,radio", "Holds cam,heat,radio",
-                "hold cam", "holds radio,heat,cam", "holds cam,cam", "holds a,b,c,d,e,f,g", "holds -,cam", "holds cam;heat"],
-            3: ["mode", "mode work", "mode work cam", "mode work cam heat -", "mode  work cam heat", "mode work  cam heat",
+                "holds cam heat radio", "holds cam,heat,radio,", "holds ,cam", "holds cam,,radio",
+                "Holds cam,heat,radio",
+                "hold cam", "holds radio,heat,cam", "holds cam,cam", "holds a,b,c,d,e,f,g", "holds -,cam",
+                "holds cam;heat"],
+            3: ["mode", "mode work", "mode work cam", "mode work cam heat -", "mode  work cam heat",
+                "mode work  cam heat",
                 "mode work cam  heat", "mode work cam heat ", "mode work cam,heat heat", "mode work heat,cam -",
-                "mode work - radio,heat", "mode work x -", "mode work - x", "mode safe - -", "mode Work - -", "mode - - -",
+                "mode work - radio,heat", "mode work x -", "mode work - x", "mode safe - -", "mode Work - -",
+                "mode - - -",
                 "mode work - ", "modes work - -", "mode abcdefghijklm - -", "mode work -,cam -", "mode work cam,cam -"],
             6: ["barred", "barred ", "barred -", "barred cam", "barred cam,heat", "barred heat,cam", "barred cam radio",
                 "barred cam,x", "barred cam,radio ", "barred cam,cam", "barred cam,radio -", "barred ,cam"],
             8: ["command", "command off", "command off - - heat", "command off - - heat safe -", "command go - - - -",
                 "command off nap - - -", "command off work,safe - - -", "command off - x - -", "command off - - x -",
                 "command off - heat heat -", "command off - - - nap", "command off - - - ", "command Off - - - -",
-                "command - - - - -", "command off - - - safe,work", "command off safe,safe - - -", "command off - - heat  -"],
-            11: ["alarm", "alarm cold", "alarm cold heat -", "alarm cold heat - - -", "alarm low - - -", "alarm cold x - -",
+                "command - - - - -", "command off - - - safe,work", "command off safe,safe - - -",
+                "command off - - heat  -"],
+            11: ["alarm", "alarm cold", "alarm cold heat -", "alarm cold heat - - -", "alarm low - - -",
+                 "alarm cold x - -",
                  "alarm cold - x -", "alarm cold heat heat -", "alarm cold - - nap", "alarm cold - - ", "alarm - - - -",
                  "alarm cold heat,cam - -", "alarm c_ld - - -"],
             13: ["row", "row again", "row again ", "row again go", "row again 1:", "row again :go", "row again 1:hop",
@@ -233,12 +240,15 @@ class InputsTest(unittest.TestCase):
         self.assertEqual(parse_inputs(book, text), told)
 
     def test_lines_that_are_no_inputs(self):
-        wrong = ["", "-", "wait", "- ", " wait", "-  wait", "- wait ", " - wait", "- Wait", "- wait wait", "- do", "- do hop",
-                 "- do plan", "- do go go", "- do  go", "- do go ", "- run", "- run go", "- run hop", "- stop go", "- stop ",
+        wrong = ["", "-", "wait", "- ", " wait", "-  wait", "- wait ", " - wait", "- Wait", "- wait wait",
+                 "- do", "- do hop",
+                 "- do plan", "- do go go", "- do  go", "- do go ", "- run", "- run go", "- run hop",
+                 "- stop go", "- stop ",
                  "- go", "low,cold wait", "low,low wait", "hot wait", "cold,hot wait", "cold, wait", ",cold wait",
                  "cold low wait", "-,cold wait", "- - wait", "-wait", "- none", "- do do go", "- None", "Low wait"]
         for line in wrong:
-            for ahead, behind in (([], []), (["- wait"], []), ([], ["- wait"]), (["- wait", "low stop"], ["", "- wait"])):
+            for ahead, behind in (([], []), (["- wait"], []), ([], ["- wait"]),
+                                  (["- wait", "low stop"], ["", "- wait"])):
                 with self.subTest(line=line, ahead=ahead):
                     text = "\n".join([*ahead, line, *behind])
                     if text == "":
