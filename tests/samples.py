@@ -71,3 +71,30 @@ def made(parts, **changes):
 def parts_of(book):
     """All parts of a book by their names."""
     return {name: getattr(book, name) for name in PARTS}
+
+ALL_MODES = tuple(f"m{k}" for k in range(5))
+
+# With quiet 25 just 2000 standings are reached: 5 modes, 16 lots of holds and 25 silences, in all ways.
+WIDEST = {
+    "holds": ["a", "b", "c", "d"],
+    "modes": [(name, (), ()) for name in ALL_MODES],
+    "barred": [],
+    "commands": [(f"on{hold}", ALL_MODES, (hold,), (), None) for hold in "abcd"]
+    + [(f"off{hold}", ALL_MODES, (), (hold,), None) for hold in "abcd"],
+    "alarms": [(f"to{name}", (), (), name) for name in ALL_MODES[1:]],
+    "rows": [],
+    "quiet": 25,
+}
+
+# Just 2001 standings are reached: 16, 4, 2 and 1 lots of holds in the modes, and 86 places in rows, or no row.
+ONE_TOO_MANY = {
+    "holds": ["a", "b", "c", "d"],
+    "modes": [("all", (), ()), ("four", (), ("c", "d")), ("two", (), ("b", "c", "d")),
+              ("one", (), ("a", "b", "c", "d"))],
+    "barred": [],
+    "commands": [("on", ("all",), ("a", "b", "c", "d"), (), None), ("never", (), (), (), None)]
+    + [(f"off{hold}", ("all",), (), (hold,), None) for hold in "abcd"],
+    "alarms": [(f"to{name}", (), (), name) for name in ("all", "four", "two", "one")],
+    "rows": [("r", ((9, "never"),) * 4), ("s", ((9, "never"),) * 4), ("t", ((9, "never"), (5, "never")))],
+    "quiet": None,
+}
