@@ -17,20 +17,21 @@ LIBRARY = {
     "collections": {"defaultdict", "deque"},
 }
 # L8, without what L27 takes away, and what has rules of its own.
-BUILTINS = set("""len range enumerate zip min max sum abs sorted reversed int str bool list tuple dict set isinstance ord
-repr any all divmod map super property ValueError KeyError IndexError LookupError ZeroDivisionError""".split())
+BUILTINS = set("""len range enumerate zip min max sum abs sorted reversed int str bool list tuple dict set isinstance
+ord repr any all divmod map super property ValueError KeyError IndexError LookupError ZeroDivisionError""".split())
 # L25.
 METHODS = set("""append clear copy count endswith extend find get index insert isalnum isalpha isdigit islower isspace
 isupper items join keys ljust lower lstrip partition pop remove replace reverse rfind rjust rpartition rsplit rstrip
 setdefault split splitlines startswith strip update upper values zfill bit_length add discard""".split())
-STATEMENTS = (ast.FunctionDef, ast.ClassDef, ast.Return, ast.Assign, ast.AugAssign, ast.For, ast.While, ast.If, ast.With,
-              ast.Raise, ast.Try, ast.Assert, ast.Delete, ast.ImportFrom, ast.Expr, ast.Pass, ast.Break, ast.Continue)
+STATEMENTS = (ast.FunctionDef, ast.ClassDef, ast.Return, ast.Assign, ast.AugAssign, ast.For, ast.While, ast.If,
+              ast.With, ast.Raise, ast.Try, ast.Assert, ast.Delete, ast.ImportFrom, ast.Expr, ast.Pass, ast.Break,
+              ast.Continue)
 # L17.
 BARRED_NAMES = set("""register mro elements open input law version_info with_traceback add_note attrgetter breakpoint
-builtins compile copyright credits delattr dir eval exec exit gc getattr globals hasattr help id importlib license locals
-methodcaller os quit setattr type vars sys""".split())
-BARRED_WORDS = re.compile(r"\b(type|typing|typing_extensions|enum|Enum|IntEnum|StrEnum|Flag|IntFlag|Generic|Protocol|ABC|"
-                          r"ABCMeta|namedtuple|NamedTuple|TypedDict|TYPE_CHECKING|abstractmethod)\b|dataclass|overload|"
+builtins compile copyright credits delattr dir eval exec exit gc getattr globals hasattr help id importlib license
+locals methodcaller os quit setattr type vars sys""".split())
+BARRED_WORDS = re.compile(r"\b(type|typing|typing_extensions|enum|Enum|IntEnum|StrEnum|Flag|IntFlag|Generic|Protocol|"
+                          r"ABC|ABCMeta|namedtuple|NamedTuple|TypedDict|TYPE_CHECKING|abstractmethod)\b|dataclass|overload|"
                           r"contextmanager")
 # L5, L28: the double-underscore methods that the package needs.
 DOUBLE = {"__init__", "__enter__", "__exit__"}
@@ -187,7 +188,8 @@ class LanguageTest(unittest.TestCase):
                     self.assertNotIn("%", node.value, name)
                     self.assertIsNone(BARRED_WORDS.search(node.value), name)
                     self.assertFalse("__" in node.value, name)
-            for word in [*bound_names(tree), *[node.attr for node in ast.walk(tree) if isinstance(node, ast.Attribute)]]:
+            attributes = [node.attr for node in ast.walk(tree) if isinstance(node, ast.Attribute)]
+            for word in [*bound_names(tree), *attributes]:
                 self.assertIsNone(BARRED_WORDS.search(word), name)
 
     def test_identity_is_asked_of_none_alone(self):

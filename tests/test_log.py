@@ -14,10 +14,6 @@ TURNS = (1, 2, 255, 256, 16777215, 16777216, 16777217, 33554432, 50000000)
 SIZES = (10, 12, 14, 30, 400)
 
 
-def lots_alike(parts, lot):
-    return [part[0] for part in parts["alarms"] if part[0] in lot]
-
-
 def word_by_hand(parts, alarms, order, turn):
     """The input word, straight by point [31]."""
     number = 0
@@ -139,7 +135,7 @@ class StandingWordsTest(unittest.TestCase):
 
     def test_the_greatest_standings(self):
         book, chance = made(FULL), random.Random(3)
-        standings = Plain({**FULL, "modes": FULL["modes"]}).standings()
+        standings = Plain(FULL).standings()
         for standing in [standings[-1], *chance.sample(standings, 500)]:
             word = standing_by_hand(FULL, standing)
             self.assertTrue(0 <= word < 2 ** 32)

@@ -73,7 +73,8 @@ class AscendingTest(unittest.TestCase):
         ordered = [
             ("idle", (), None, 0, 0, 1), ("idle", (), None, 0, 0, 2), ("idle", (), "again", 0, 1, 0),
             ("idle", (), "again", 0, 9, 0), ("idle", (), "plan", 0, 1, 3), ("idle", (), "plan", 0, 2, 0),
-            ("idle", (), "plan", 1, 1, 0), ("idle", ("cam",), None, 0, 0, 0), ("idle", ("cam", "heat"), "plan", 1, 1, 0),
+            ("idle", (), "plan", 1, 1, 0), ("idle", ("cam",), None, 0, 0, 0),
+            ("idle", ("cam", "heat"), "plan", 1, 1, 0),
             ("idle", ("heat",), None, 0, 0, 0), ("safe", (), None, 0, 0, 0), ("work", (), "again", 0, 1, 0),
         ]
         for seed in range(20):
@@ -129,8 +130,8 @@ class IsBarredTest(unittest.TestCase):
 
     def test_a_barred_lot_of_three(self):
         book = made(PLAIN, barred=[("cam", "heat", "radio")])
-        self.assertEqual([is_barred(book, lot) for lot in (("cam", "heat"), ("heat", "radio"), ("cam", "heat", "radio"))],
-                         [False, False, True])
+        lots = (("cam", "heat"), ("heat", "radio"), ("cam", "heat", "radio"))
+        self.assertEqual([is_barred(book, lot) for lot in lots], [False, False, True])
 
 
 class StepTest(unittest.TestCase):
