@@ -31,8 +31,8 @@ BARRED_NAMES = set("""register mro elements open input law version_info with_tra
 builtins compile copyright credits delattr dir eval exec exit gc getattr globals hasattr help id importlib license
 locals methodcaller os quit setattr type vars sys""".split())
 BARRED_WORDS = re.compile(r"\b(type|typing|typing_extensions|enum|Enum|IntEnum|StrEnum|Flag|IntFlag|Generic|Protocol|"
-                          r"ABC|ABCMeta|namedtuple|NamedTuple|TypedDict|TYPE_CHECKING|abstractmethod)\b|dataclass|overload|"
-                          r"contextmanager")
+                          r"ABC|ABCMeta|namedtuple|NamedTuple|TypedDict|TYPE_CHECKING|abstractmethod)\b|"
+                          r"dataclass|overload|contextmanager")
 # L5, L28: the double-underscore methods that the package needs.
 DOUBLE = {"__init__", "__enter__", "__exit__"}
 
