@@ -122,10 +122,15 @@ def head_writes(book, memory, turn, standing, ticks, orders):
     return [*[(first + at, word) for at, word in enumerate(words, start=1)], (first, turn)]
 
 
+def check_cells(cells):
+    """Raises TooLarge unless a log can have so many cells."""
+    if not LEAST_CELLS <= cells <= MOST_CELLS or cells % 2 != 0:
+        raise TooLarge(f"a log has an even number of cells from {LEAST_CELLS} to {MOST_CELLS}")
+
+
 def begin_log(book, memory):
     """Writes the head of round 1 with the first standing into the memory. Raises TooLarge."""
-    if not LEAST_CELLS <= memory.cells <= MOST_CELLS or memory.cells % 2 != 0:
-        raise TooLarge(f"a log has an even number of cells from {LEAST_CELLS} to {MOST_CELLS}")
+    check_cells(memory.cells)
     for cell, word in head_writes(book, memory, 1, first_standing(book), 0, 0):
         memory.write(cell, word)
 
@@ -161,10 +166,8 @@ def read_log(book, memory):
     return Told(turn, standing, ticks + len(inputs), orders + len(obeyed), inputs)
 
 
-def writes_for(book, memory, alarms, order):
-    """The list of the writes that the log needs to take the input, in order. Raises InvalidInput, Unmendable."""
-    check_inputs(book, [(alarms, order)])
-    told = read_log(book, memory)
+def writes_behind(book, memory, told, alarms, order):
+    """The list of the writes that a log which tells this needs to take an input of the book, in order."""
     cell = half_of(memory, told.turn) + CELLS_OF_HEAD + len(told.inputs)
     if cell < half_of(memory, told.turn) + memory.cells // 2:
         return [(cell, word_of_input(book, alarms, order, told.turn))]
@@ -172,3 +175,9 @@ def writes_for(book, memory, alarms, order):
     head = head_writes(book, memory, turn, told.standing, told.ticks, told.orders)
     cell = half_of(memory, turn) + CELLS_OF_HEAD
     return [*head, (cell, word_of_input(book, alarms, order, turn))]
+
+
+def writes_for(book, memory, alarms, order):
+    """The list of the writes that the log needs to take the input, in order. Raises InvalidInput, Unmendable."""
+    check_inputs(book, [(alarms, order)])
+    return writes_behind(book, memory, read_log(book, memory), alarms, order)

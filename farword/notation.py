@@ -50,13 +50,18 @@ def read_target(word):
     return None if word == "-" else word
 
 
-def read_number(word):
-    """The number that the word writes, or None if it writes none."""
-    if not 1 <= len(word) <= MOST_DIGITS or not all([sign in DIGITS for sign in word]):
+def read_digits(word, most):
+    """The number that the word writes with at most so many digits, or None if it writes none."""
+    if not 1 <= len(word) <= most or not all([sign in DIGITS for sign in word]):
         return None
     if len(word) > 1 and word[0] == "0":
         return None
     return int(word)
+
+
+def read_number(word):
+    """The number of a book that the word writes, or None if it writes none."""
+    return read_digits(word, MOST_DIGITS)
 
 
 def read_step(word):

@@ -35,6 +35,7 @@ FUNCTIONS = {
             "standing_word": ["book", "standing"], "word_standing": ["book", "word"],
             "begin_log": ["book", "memory"], "read_log": ["book", "memory"],
             "writes_for": ["book", "memory", "alarms", "order"]},
+    "letters": {"format_letter": ["letter"], "read_letter": ["text"]},
 }
 # The classes of each file, the arguments of their calls, and their properties and methods.
 CLASSES = {
@@ -49,11 +50,25 @@ CLASSES = {
                            "flip": ["cell", "place"], "row_at": ["cell"], "state_at": ["cell"], "twin": []})},
     "steps": {"Step": (["standing", "done", "refused", "moments"], [], {})},
     "log": {"Told": (["turn", "standing", "ticks", "orders", "inputs"], [], {})},
+    "craft": {"Craft": (["book", "cells", "beats"], [],
+                        {"tick": ["alarms", "order", "*fall"], "fall": ["side"], "rise": ["side"], "is_up": ["side"],
+                         "running": [], "standing": [], "ticks": [], "orders": [], "inputs": [],
+                         "flip": ["cell", "place"]})},
+    "ground": {"Ground": (["book", "window"], [],
+                          {"ask": ["order"], "send": [], "can_be": ["frame"], "hear": ["frame"], "known": [],
+                           "newest": [], "asked": [], "sent": [], "frames": []})},
+    "link": {"World": (["book", "window", "cells", "beats"], [],
+                       {"ask": ["order"], "send": [], "letters": [], "deliver": ["number"], "lose": ["number"],
+                        "double": ["number"], "tick": ["alarms", "*fall"], "fall": ["side"], "rise": ["side"],
+                        "flip": ["cell", "bit"], "waiting": [], "standing": [], "ticks": [], "orders": [],
+                        "running": [], "known": [], "asked": [], "sent": [], "frames": [], "settle": []})},
 }
 
 
 def arguments_of(function):
-    return list(inspect.signature(function).parameters)
+    """The names of the arguments; a star stands ahead of those that are passed by name alone."""
+    told = inspect.signature(function).parameters.values()
+    return ["*" + argument.name if argument.kind == argument.KEYWORD_ONLY else argument.name for argument in told]
 
 
 class InterfaceTest(unittest.TestCase):
