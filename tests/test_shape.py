@@ -36,6 +36,15 @@ FUNCTIONS = {
             "begin_log": ["book", "memory"], "read_log": ["book", "memory"],
             "writes_for": ["book", "memory", "alarms", "order"]},
     "letters": {"format_letter": ["letter"], "read_letter": ["text"]},
+    "known": {"may_take": ["sent", "count", "tick"], "fits_frames": ["standing", "count", "tick", "frames"],
+              "sets_known": ["book", "sent", "alarms", "frames", "now"],
+              "known": ["book", "sent", "alarms", "frames", "now"],
+              "known_then": ["book", "sent", "alarms", "frames", "now", "then"],
+              "fitting_history": ["book", "sent", "alarms", "frames", "now", "pair"],
+              "is_fitting": ["book", "sent", "alarms", "frames", "history"],
+              "check_sets": ["book", "sent", "alarms", "frames", "sets"], "sure_holds": ["book", "pairs"],
+              "modes_in": ["pairs"]},
+    "report": {"standing_line": ["standing"], "history_table": ["book", "inputs"]},
 }
 # The classes of each file, the arguments of their calls, and their properties and methods.
 CLASSES = {
@@ -62,6 +71,12 @@ CLASSES = {
                         "double": ["number"], "tick": ["alarms", "*fall"], "fall": ["side"], "rise": ["side"],
                         "flip": ["cell", "bit"], "waiting": [], "standing": [], "ticks": [], "orders": [],
                         "running": [], "known": [], "asked": [], "sent": [], "frames": [], "settle": []})},
+    "desk": {"Desk": (["book"], ["found"],
+                      {"put_part": ["sort", "part"], "drop_part": ["sort", "name"], "bar": ["lot"], "unbar": ["lot"],
+                       "set_quiet": ["quiet"], "book_now": [], "answer": ["question"], "undo": [], "redo": [],
+                       "trial": [], "change_all": ["deeds"]}),
+             "Trial": (["desk"], [], {"__enter__": []})},
+    "session": {"Session": (["book"], [], {"obey": ["line"], "play": ["text"]})},
 }
 
 
