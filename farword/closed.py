@@ -1,37 +1,36 @@
 """Histories: the standings that they reach, the first barred one, and tables that show that there is none."""
 
 from farword.errors import TooLarge
-from farword.steps import KeptTicks, alarm_lots, first_standing, is_barred, is_standing, orders_of, run_of
+from farword.machine import Machine, Walk
+from farword.steps import alarm_lots, first_standing, is_barred, is_standing, run_of
 
 MOST_STANDINGS = 2000
 
 
-def found_standings(book):
-    """A dict from the reached standings, in order, to the standing and the input that lead to them first.
+def machine_of(book):
+    """The machine of the book by all lots of its alarms."""
+    return Machine(book, alarm_lots(book))
+
+
+def found_numbers(machine):
+    """A dict from the numbers of the reached standings, in order, to the number and the input that lead to them first.
 
     Raises TooLarge.
     """
-    kept = KeptTicks(book, alarm_lots(book))
-    orders = orders_of(book)
-    found = {first_standing(book): None}
-    waiting = list(found)
-    half_ways = set()
+    walk = Walk(machine)
+    found = {machine.first: None}
+    waiting = [machine.first]
     at = 0
     while at < len(waiting):
-        standing = waiting[at]
+        number = waiting[at]
         at = at + 1
-        for alarms, half_way, _ in kept.alarmed(standing):
-            # The orders lead nowhere new from where they were obeyed before.
-            if half_way in half_ways:
-                continue
-            half_ways.add(half_way)
-            for order in orders:
-                behind = kept.step(half_way, order).standing
-                if behind not in found:
-                    found[behind] = (standing, (alarms, order))
-                    waiting.append(behind)
-            if len(found) > MOST_STANDINGS:
-                raise TooLarge(f"more than {MOST_STANDINGS} standings are reached")
+        for told, outcome in walk.ticks_from(number):
+            behind = outcome[0]
+            if behind not in found:
+                found[behind] = (number, told)
+                waiting.append(behind)
+        if len(found) > MOST_STANDINGS:
+            raise TooLarge(f"more than {MOST_STANDINGS} standings are reached")
     return found
 
 
@@ -44,15 +43,23 @@ def inputs_to(found, last):
     return inputs[::-1]
 
 
+def standings_of(machine, numbers):
+    """The list of the standings with these numbers."""
+    return [machine.standing_of(number) for number in numbers]
+
+
 def reached(book):
     """The list of all reached standings, in the order of their first histories. Raises TooLarge."""
-    return list(found_standings(book))
+    machine = machine_of(book)
+    return standings_of(machine, list(found_numbers(machine)))
 
 
 def history_to(book, standing):
     """The first history that leads to the standing, or None if it is not reached. Raises TooLarge."""
-    found = found_standings(book)
-    return inputs_to(found, standing) if standing in found else None
+    machine = machine_of(book)
+    found = found_numbers(machine)
+    number = machine.number_of(standing)
+    return inputs_to(found, number) if number in found else None
 
 
 def is_first_barred(book):
@@ -60,66 +67,58 @@ def is_first_barred(book):
     return is_barred(book, first_standing(book)[1])
 
 
-def first_barred_tick(book, standings):
-    """The first of the standings, and from it the first input, of a tick with a barred moment, or None."""
-    kept = KeptTicks(book, alarm_lots(book))
-    orders = orders_of(book)
-    clean = set()
-    for standing in standings:
-        for alarms, half_way, moments in kept.alarmed(standing):
-            if kept.has_barred(moments):
-                return (standing, (alarms, None))
-            if half_way in clean:
-                continue
-            for order in orders:
-                if kept.has_barred(kept.step(half_way, order).moments):
-                    return (standing, (alarms, order))
-            clean.add(half_way)
+def first_barred_tick(machine, numbers):
+    """The first of the numbers of standings, and from it the first input, of a tick with a barred moment, or None."""
+    walk = Walk(machine)
+    for number in numbers:
+        for told, outcome in walk.ticks_from(number):
+            _, _, barred = outcome
+            if barred:
+                return (number, told)
     return None
 
 
 def verdict(book):
     """Clean with the list of all reached standings, or barred with the first barred history. Raises TooLarge."""
-    found = found_standings(book)
+    machine = machine_of(book)
+    found = found_numbers(machine)
     if is_first_barred(book):
         return ("barred", [])
-    barred = first_barred_tick(book, list(found))
+    barred = first_barred_tick(machine, list(found))
     if barred is None:
-        return ("clean", list(found))
-    standing, told = barred
+        return ("clean", standings_of(machine, list(found)))
+    number, told = barred
     # A shortest barred history leads to this standing by its first history.
-    return ("barred", [*inputs_to(found, standing), told])
+    return ("barred", [*inputs_to(found, number), told])
 
 
-def is_closed(book, standings):
-    """Whether the first standing is in the list of standings, and behind each tick from one of them another one."""
-    kept = KeptTicks(book, alarm_lots(book))
-    orders = orders_of(book)
-    known = set(standings)
-    staying = set()
-    if first_standing(book) not in known:
+def is_closed(machine, numbers):
+    """Whether the first standing is in the list of numbers, and behind each tick from one of them another one."""
+    known = set(numbers)
+    walk = Walk(machine)
+    if machine.first not in known:
         return False
-    for standing in standings:
-        for _, half_way, _ in kept.alarmed(standing):
-            if half_way in staying:
-                continue
-            for order in orders:
-                if kept.step(half_way, order).standing not in known:
-                    return False
-            staying.add(half_way)
+    for number in numbers:
+        for _, outcome in walk.ticks_from(number):
+            if outcome[0] not in known:
+                return False
     return True
 
 
-def is_clean(book, standings):
-    """Whether no moment is barred: that of the first standing, and those of all ticks from the standings."""
-    return not is_first_barred(book) and first_barred_tick(book, standings) is None
+def numbers_of(machine, standings):
+    """The list of the numbers of the standings."""
+    return [machine.number_of(standing) for standing in standings]
 
 
 def check_table(book, table):
     """Whether the list of tuples has standings alone, and is closed and clean."""
     if not all([is_standing(book, value) for value in table]):
         return False
-    return is_closed(book, table) and is_clean(book, table)
+    machine = machine_of(book)
+    numbers = numbers_of(machine, table)
+    if not is_closed(machine, numbers):
+        return False
+    return not is_first_barred(book) and first_barred_tick(machine, numbers) is None
 
 
 def is_barred_history(book, history):

@@ -1,7 +1,8 @@
 """What frames tell: the pairs of a standing and a number of orders taken that can be true, by all that was heard."""
 
 from farword.errors import TooLarge
-from farword.steps import KeptTicks, ascending_key, first_standing, lots_of, step_of
+from farword.machine import Coming
+from farword.steps import ascending_key, first_standing, lots_of, step_of
 
 MOST_PAIRS = 1000
 
@@ -40,31 +41,19 @@ def ascending_pairs(pairs):
     return [by_key[key] for key in sorted(by_key)]
 
 
-class Ways:
-    """What comes of the standings of a book by an order or none, and any of the alarms that may come."""
+def coming_of(book, alarms):
+    """What can come of the standings of the book, if these alarms may come."""
+    return Coming(book, lots_of(alarms))
 
-    def __init__(self, book, alarms):
-        self._kept = KeptTicks(book, lots_of(alarms))
-        self._behind = {}
 
-    def behind(self, standing, order):
-        """The dict from the standings behind the tick to the first lot of alarms by which they come."""
-        key = (standing, order)
-        if key not in self._behind:
-            came = {}
-            for alarms, half_way, _ in self._kept.alarmed(standing):
-                came.setdefault(self._kept.step(half_way, order).standing, alarms)
-            self._behind[key] = came
-        return self._behind[key]
-
-    def pairs_behind(self, sent, pair, tick):
-        """The list of all pairs behind the tick from a pair, each with an input that leads to it."""
-        standing, count = pair
-        pairs = []
-        for order in may_take(sent, count, tick):
-            for next_one, alarms in self.behind(standing, order).items():
-                pairs.append(((next_one, count_behind(count, order)), (alarms, order)))
-        return pairs
+def pairs_behind(coming, sent, pair, tick):
+    """The list of all pairs behind the tick from a pair, each with an input that leads to it."""
+    standing, count = pair
+    pairs = []
+    for order in may_take(sent, count, tick):
+        for behind, alarms in coming.behind(standing, order).items():
+            pairs.append(((behind, count_behind(count, order)), (alarms, order)))
+    return pairs
 
 
 def first_pairs(book, frames):
@@ -73,14 +62,14 @@ def first_pairs(book, frames):
     return {(start, 0): None} if fits_frames(start, 0, 0, frames) else {}
 
 
-def next_pairs(ways, sent, last, tick, frames):
+def next_pairs(coming, sent, last, tick, frames):
     """The dict from what is known at the tick to the pair and the input ahead of it, by what was known ahead.
 
     The frames are those of the tick. Raises TooLarge.
     """
     here = {}
     for pair in last:
-        for behind, told in ways.pairs_behind(sent, pair, tick):
+        for behind, told in pairs_behind(coming, sent, pair, tick):
             if behind not in here and fits_frames(behind[0], behind[1], tick, frames):
                 here[behind] = (pair, told)
         if len(here) > MOST_PAIRS:
@@ -88,18 +77,18 @@ def next_pairs(ways, sent, last, tick, frames):
     return here
 
 
-def pairs_by_tick(book, ways, sent, frames, now):
+def pairs_by_tick(book, coming, sent, frames, now):
     """The list of the dicts of what is known at each tick, by the frames up to it. Raises TooLarge."""
     by_tick = frames_by_tick(frames)
     here = [first_pairs(book, frames)]
     for tick in range(1, now + 1):
-        here.append(next_pairs(ways, sent, here[-1], tick, by_tick.get(tick, [])))
+        here.append(next_pairs(coming, sent, here[-1], tick, by_tick.get(tick, [])))
     return here
 
 
 def sets_known(book, sent, alarms, frames, now):
     """The list of the lists of what is known at each tick, by the frames up to it. Raises TooLarge."""
-    return [ascending_pairs(pairs) for pairs in pairs_by_tick(book, Ways(book, alarms), sent, frames, now)]
+    return [ascending_pairs(pairs) for pairs in pairs_by_tick(book, coming_of(book, alarms), sent, frames, now)]
 
 
 def known(book, sent, alarms, frames, now):
@@ -107,24 +96,24 @@ def known(book, sent, alarms, frames, now):
     return sets_known(book, sent, alarms, frames, now)[-1]
 
 
-def leads_into(ways, sent, pair, tick, pairs):
+def leads_into(coming, sent, pair, tick, pairs):
     """Whether the tick can lead from the pair to one of the dict."""
-    return any([behind in pairs for behind, _ in ways.pairs_behind(sent, pair, tick)])
+    return any([behind in pairs for behind, _ in pairs_behind(coming, sent, pair, tick)])
 
 
 def known_then(book, sent, alarms, frames, now, then):
     """The list of what is known now of an earlier tick. Raises TooLarge."""
-    ways = Ways(book, alarms)
-    here = pairs_by_tick(book, ways, sent, frames, now)
+    coming = coming_of(book, alarms)
+    here = pairs_by_tick(book, coming, sent, frames, now)
     pairs = here[now]
     for tick in range(now, then, -1):
-        pairs = {pair: True for pair in here[tick - 1] if leads_into(ways, sent, pair, tick, pairs)}
+        pairs = {pair: True for pair in here[tick - 1] if leads_into(coming, sent, pair, tick, pairs)}
     return ascending_pairs(pairs)
 
 
 def fitting_history(book, sent, alarms, frames, now, pair):
     """A history that fits the frames and leads to the pair, or None if there is none. Raises TooLarge."""
-    here = pairs_by_tick(book, Ways(book, alarms), sent, frames, now)
+    here = pairs_by_tick(book, coming_of(book, alarms), sent, frames, now)
     if pair not in here[now]:
         return None
     inputs = []
@@ -150,11 +139,11 @@ def is_fitting(book, sent, alarms, frames, history):
     return True
 
 
-def leads_on(ways, sent, here, tick, frames, behind):
+def leads_on(coming, sent, here, tick, frames, behind):
     """Whether all pairs behind the tick from the pairs of a list that fit the frames are in the next list."""
     listed = set(behind)
     for pair in here:
-        for came, _ in ways.pairs_behind(sent, pair, tick):
+        for came, _ in pairs_behind(coming, sent, pair, tick):
             if came not in listed and fits_frames(came[0], came[1], tick, frames):
                 return False
     return True
@@ -162,12 +151,12 @@ def leads_on(ways, sent, here, tick, frames, behind):
 
 def check_sets(book, sent, alarms, frames, sets):
     """Whether the list of one or more lists of pairs holds."""
-    ways = Ways(book, alarms)
+    coming = coming_of(book, alarms)
     by_tick = frames_by_tick(frames)
     if not all([pair in sets[0] for pair in first_pairs(book, frames)]):
         return False
     for tick in range(1, len(sets)):
-        if not leads_on(ways, sent, sets[tick - 1], tick, by_tick.get(tick, []), sets[tick]):
+        if not leads_on(coming, sent, sets[tick - 1], tick, by_tick.get(tick, []), sets[tick]):
             return False
     return True
 

@@ -2,7 +2,8 @@
 
 from farword.books import is_order
 from farword.errors import InvalidInput, TooLarge
-from farword.steps import KeptTicks, ascending, lots_of, orders_of
+from farword.machine import Coming
+from farword.steps import ascending, lots_of, orders_of
 
 MOST_CROWDS = 500
 
@@ -28,15 +29,14 @@ def check_orders(book, orders):
             raise InvalidInput(f"no order of the book: {order!r}")
 
 
-def ways_behind(kept, ways, order):
+def ways_behind(coming, ways, order):
     """The ways to all that can come by the order of what the ways lead to, one way to each.
 
     A way is told for the standing that it leads to: where it begins, and by which inputs it goes.
     """
     behind = {}
     for standing, (begin, inputs) in ways.items():
-        for alarms, half_way, _ in kept.alarmed(standing):
-            next_one = kept.step(half_way, order).standing
+        for next_one, alarms in coming.behind(standing, order).items():
             if next_one not in behind:
                 behind[next_one] = (begin, [*inputs, (alarms, order)])
     return behind
@@ -45,10 +45,10 @@ def ways_behind(kept, ways, order):
 def ways_by(book, crowd, orders, alarms):
     """The ways to all that can come of the crowd by the row of orders, one way to each. Raises InvalidInput."""
     check_orders(book, orders)
-    kept = KeptTicks(book, lots_of(alarms))
+    coming = Coming(book, lots_of(alarms))
     ways = {standing: (standing, []) for standing in crowd}
     for order in orders:
-        ways = ways_behind(kept, ways, order)
+        ways = ways_behind(coming, ways, order)
     return ways
 
 
@@ -78,7 +78,7 @@ class Crowds:
 
     def __init__(self, book, alarms):
         self.orders = orders_of(book)
-        self._kept = KeptTicks(book, lots_of(alarms))
+        self._alarmed = Coming(book, lots_of(alarms))
         self._numbers = {}
         self._standings = []
         self._behind = {}
@@ -116,8 +116,7 @@ class Crowds:
         """The numbers of all standings that can come of one by the order."""
         key = (number, order)
         if key not in self._behind:
-            half_ways = [half_way for _, half_way, _ in self._kept.alarmed(self._standings[number])]
-            self._behind[key] = self.numbered([self._kept.step(half_way, order).standing for half_way in half_ways])
+            self._behind[key] = self.numbered(list(self._alarmed.behind(self._standings[number], order)))
         return self._behind[key]
 
 

@@ -1,6 +1,6 @@
 """Rest: how long it takes until nothing changes if nothing is heard, and ranks that show it."""
 
-from farword.closed import is_closed, reached
+from farword.closed import found_numbers, is_closed, machine_of, numbers_of
 from farword.steps import entered, is_standing, step_of
 
 
@@ -27,9 +27,31 @@ def rest_time(book, standing):
     return ticks
 
 
+def times_of(book, machine, standings):
+    """The dict from the numbers of standings to their rest times; the standings are told by a dict from the numbers.
+
+    Behind each tick from one of them comes another one.
+    """
+    times = {}
+    for first in list(standings):
+        number = first
+        way = []
+        while number not in times and not rests(book, standings[number]):
+            way.append(number)
+            number = machine.waited(number)[0]
+        time = times.setdefault(number, 0)
+        for ahead in way[::-1]:
+            time = time + 1
+            times[ahead] = time
+    return times
+
+
 def ranks_of(book):
     """The dict from all reached standings to their rest times. Raises TooLarge."""
-    return {standing: rest_time(book, standing) for standing in reached(book)}
+    machine = machine_of(book)
+    standings = {number: machine.standing_of(number) for number in list(found_numbers(machine))}
+    times = times_of(book, machine, standings)
+    return {standing: times[number] for number, standing in standings.items()}
 
 
 def rest_bound(book):
@@ -48,7 +70,10 @@ def falls(book, ranks, standing):
 def check_ranks(book, ranks, bound):
     """Whether the dict from tuples to integers has standings of the book alone as keys, and shows the bound."""
     standings = list(ranks)
-    if not all([is_standing(book, value) for value in standings]) or not is_closed(book, standings):
+    if not all([is_standing(book, value) for value in standings]):
+        return False
+    machine = machine_of(book)
+    if not is_closed(machine, numbers_of(machine, standings)):
         return False
     if not all([0 <= rank <= bound for rank in ranks.values()]):
         return False

@@ -98,3 +98,29 @@ ONE_TOO_MANY = {
     "rows": [("r", ((9, "never"),) * 4), ("s", ((9, "never"),) * 4), ("t", ((9, "never"), (5, "never")))],
     "quiet": None,
 }
+
+# One mode in which each of six holds is turned on by a command: 64 lots of holds in 30 silences, in all ways.
+MANY_LOTS = {
+    "holds": ["a", "b", "c", "d", "e", "f"],
+    "modes": [("m", (), ("a", "b", "c", "d", "e", "f"))],
+    "barred": [],
+    "commands": [(f"x{hold}", ("m",), (hold,), (), None) for hold in "abcdef"],
+    "alarms": [],
+    "rows": [],
+    "quiet": 30,
+}
+
+# The row multiplies the standings by 10, so that too many are reached.
+MANY_STAGES = {**MANY_LOTS, "rows": [("r", ((9, "xa"),))]}
+
+# With quiet 25 just 2000 standings are reached, by commands alone.
+MANY_COMMANDS = {
+    "holds": ["a", "b", "c", "d"],
+    "modes": [(name, (), ()) for name in ALL_MODES],
+    "barred": [("a", "b")],
+    "commands": [(f"x{hold}", ALL_MODES, (hold,), (), None) for hold in "abcd"]
+    + [(f"to{name}", ALL_MODES, (), (), name) for name in ALL_MODES[1:]],
+    "alarms": [],
+    "rows": [],
+    "quiet": 25,
+}
