@@ -1,7 +1,7 @@
 """The craft: two sides that fall and rise, and share a memory with a log of what the craft has taken."""
 
 from farword.books import check_inputs
-from farword.log import begin_log, check_cells, read_log, writes_behind
+from farword.log import begin_log, read_log, writes_behind
 from farword.memory import Memory
 from farword.steps import step_of
 
@@ -13,7 +13,6 @@ class Craft:
     """A craft with a book and a memory of so many cells; a side that waits takes over behind so many beats."""
 
     def __init__(self, book, cells, beats):
-        check_cells(cells)
         self._book = book
         self._memory = Memory(cells, BITS_OF_LOG)
         self._beats = beats

@@ -25,7 +25,7 @@ class Ground:
 
     def ask(self, order):
         """Asks for an order; its number. Raises InvalidInput."""
-        if not is_order(self._book, order):
+        if order is None or not is_order(self._book, order):
             raise InvalidInput(f"no order of the book: {order!r}")
         self._asked.append(order)
         return len(self._asked) - 1

@@ -122,15 +122,10 @@ def head_writes(book, memory, turn, standing, ticks, orders):
     return [*[(first + at, word) for at, word in enumerate(words, start=1)], (first, turn)]
 
 
-def check_cells(cells):
-    """Raises TooLarge unless a log can have so many cells."""
-    if not LEAST_CELLS <= cells <= MOST_CELLS or cells % 2 != 0:
-        raise TooLarge(f"a log has an even number of cells from {LEAST_CELLS} to {MOST_CELLS}")
-
-
 def begin_log(book, memory):
     """Writes the head of round 1 with the first standing into the memory. Raises TooLarge."""
-    check_cells(memory.cells)
+    if not LEAST_CELLS <= memory.cells <= MOST_CELLS or memory.cells % 2 != 0:
+        raise TooLarge(f"a log has an even number of cells from {LEAST_CELLS} to {MOST_CELLS}")
     for cell, word in head_writes(book, memory, 1, first_standing(book), 0, 0):
         memory.write(cell, word)
 

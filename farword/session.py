@@ -97,7 +97,7 @@ class Session:
         return self._begin()
 
     def _set_quiet(self, told):
-        quiet = None if told == "-" else read_number(told)
+        quiet = read_number(told)
         if quiet is None and told != "-":
             return NO_FORM
         self._desk.set_quiet(quiet)

@@ -4,7 +4,9 @@ import copy
 import itertools
 import random
 import unittest
+import unittest.mock
 
+import farword.desk
 from farword.closed import reached, verdict
 from farword.desk import Desk, Trial
 from farword.errors import (FarError, InvalidBook, NameInUse, NothingToRedo, NothingToUndo, TooLarge, UnknownName)
@@ -244,6 +246,18 @@ class AnswerTest(unittest.TestCase):
         self.assertEqual((desk.answer("rest"), desk.found), (4, 3))
         desk.redo()
         self.assertEqual((desk.answer("rest"), desk.found), (2, 3))
+
+    def test_an_answer_is_found_once(self):
+        desk = Desk(made(BARRED))
+        for name, question in (("reached", "reached"), ("verdict", "barred"), ("rest_bound", "rest")):
+            with unittest.mock.patch(f"farword.desk.{name}", wraps=getattr(farword.desk, name)) as counted:
+                for _ in range(3):
+                    desk.answer(question)
+                    desk.set_quiet(2)
+                    desk.answer(question)
+                    desk.undo()
+                self.assertEqual(counted.call_count, 2)
+        self.assertEqual(desk.found, 6)
 
     def test_another_book_with_the_same_parts(self):
         desk = Desk(made(PLAIN))

@@ -10,7 +10,7 @@ from tests.plain_world import PlainGround
 from tests.samples import PLAIN, SMALLEST, made
 
 ORDERS = [("do", "go"), ("do", "off"), ("stop",), ("run", "plan"), ("do", "warm"), ("run", "again")]
-WRONG = [("do", "hop"), ("run", "go"), (), ("do",), ("wait",), ("stop", "go"), ("do", "go", "go")]
+WRONG = [None, ("do", "hop"), ("run", "go"), (), ("do",), ("wait",), ("stop", "go"), ("do", "go", "go")]
 
 
 def ground_with(many, window=8):

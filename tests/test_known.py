@@ -252,7 +252,8 @@ class HistoryTest(unittest.TestCase):
         cold, nothing = (("cold",), None), ((), None)
         for alarms, frames, history, answer in (
                 (("cold",), [], [cold, ((), GO)], True), ((), [], [cold], False),
-                (("cold",), [], [(("cold", "low"), None)], False), (("cold", "low"), [], [(("cold", "low"), None)], True),
+                (("cold",), [], [(("cold", "low"), None)], False),
+                (("cold", "low"), [], [(("cold", "low"), None)], True),
                 ((), [], [((), STOP)], False), ((), [], [((), GO), ((), STOP)], True),
                 ((), [], [((), GO), ((), GO)], False), ((), [], [((), GO), nothing, ((), STOP)], True),
                 ((), [(2, 1, "work", ("cam", "radio"))], [((), GO), nothing], True),
@@ -463,7 +464,22 @@ class LargeTest(unittest.TestCase):
             known(book, sent, alarms, [], 125)
         self.assertEqual(len(known(book, sent[:124], alarms, [], 200)), 1000)
         self.assertIs(check_sets(book, sent, alarms, [], sets), True)
-        # Sets that hold may be larger.
+    def test_just_one_more(self):
+        # As above; but the last order turns all holds off, so that behind it there is one pair alone in its tick.
+        parts = {**SMALLEST, "holds": ["a", "b", "c"], "commands": [("clear", ("m",), (), ("a", "b", "c"), None)],
+                 "alarms": [(f"to{hold}", (hold,), (), None) for hold in "abc"]}
+        told = (made(parts), [(STOP, 1)] * 124 + [(("do", "clear"), 1)], ("toa", "tob", "toc"))
+        self.assertEqual(len(known(*told, [], 124)), 1000)
+        with self.assertRaises(TooLarge):
+            known(*told, [], 125)
+        self.assertEqual(len(known(*told, [(125, 125, "m", ())], 125)), 1)
+        self.assertEqual(len(known(*told, [(125, 0, "m", ())], 125)), 1)
+
+    def test_sets_that_hold_may_be_larger(self):
+        parts = {**SMALLEST, "holds": ["a", "b", "c"],
+                 "alarms": [(f"to{hold}", (hold,), (), None) for hold in "abc"]}
+        book, alarms, sent = made(parts), ("toa", "tob", "toc"), [(STOP, 1)] * 30
+        sets = sets_known(book, sent, alarms, [], 30)
         others = [(standing, 200 + at) for at in range(100) for standing in Plain(parts).standings()]
         self.assertIs(check_sets(book, sent, alarms, [], [[*pairs, *others] for pairs in sets]), True)
 

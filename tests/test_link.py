@@ -528,6 +528,15 @@ class SettleTest(unittest.TestCase):
         flip_two(world, 16)
         self.assertIs(world.settle(), True)
 
+    def test_three_places_of_a_cell_off(self):
+        # What the log tells is wrong then, and the ground never knows what it waits for; but the rounds have an end.
+        world = world_with(GO, OFF)
+        for place in (0, 3, 5):
+            world.flip(13, place)
+        self.assertNotEqual(world.orders(), 0)
+        self.assertIs(world.settle(), False)
+        self.assertEqual((world.known(), world.waiting()), (0, None))
+
     def test_a_scrubbing_that_raises(self):
         world = world_with(GO, OFF, STOP, window=1)
         flip_two(world, 2)

@@ -177,7 +177,8 @@ class ManyStandingsTest(unittest.TestCase):
     def test_too_large(self):
         book = made(MANY_STAGES)
         for ask in (reached, verdict, rest_bound, ranks_of, lambda told: pairs_of(told, told),
-                    lambda told: parting_history(told, told), lambda told: history_to(told, Plain(MANY_STAGES).first())):
+                    lambda told: parting_history(told, told),
+                    lambda told: history_to(told, Plain(MANY_STAGES).first())):
             with self.assertRaises(TooLarge):
                 ask(book)
         for ask in (reached, verdict, rest_bound, ranks_of):

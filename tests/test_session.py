@@ -13,7 +13,8 @@ from tests.plain import Plain, parts_by_chance
 from tests.samples import ONE_TOO_MANY, PLAIN, PLAIN_TEXT, SMALLEST, made
 
 NO_FORM = [
-    "", " ", "  ", "hop", "modes", "Mode nap - -", "MODE nap - -", "holds a", "holds cam,heat,radio", "barred cam,radio",
+    "", " ", "  ", "hop", "modes", "Mode nap - -", "MODE nap - -", "holds a", "holds cam,heat,radio",
+    "barred cam,radio",
     "mode", "mode nap", "mode nap -", "mode nap - - -", "mode nap - - ", " mode nap - -", "mode  nap - -",
     "mode nap  - -", "mode nap -  -", "command", "command hop safe - -", "command hop safe - - - -", "command hop",
     "command hop safe - - - ", "command  hop safe - - -", "alarm", "alarm hot - -", "alarm hot - - - -", "alarm hot",
@@ -39,20 +40,24 @@ WRONG_BOOKS = [
     "alarm hot - - nap", "alarm hot hot - -", "alarm hot cam cam -", "alarm - - - -", "alarm hot - - SAFE",
     "row r 0:go", "row r 10:go", "row r 99:go", "row r 2:", "row r 2:hop", "row r 2:Go", "row - 2:go", "row R 2:go",
     "row r 1:go 1:go 1:go 1:go 1:go", "row r 2:go 0:go", "row r 2:go 2:", "row r 2:plan",
-    "bar -", "bar cam", "bar heat,cam", "bar cam,heat", "bar cam,hot", "bar cam,cam", "bar ,", "bar cam,", "bar Cam,Heat",
+    "bar -", "bar cam", "bar heat,cam", "bar cam,heat", "bar cam,hot", "bar cam,cam", "bar ,", "bar cam,",
+    "bar Cam,Heat",
     "quiet 0", "quiet 31", "quiet 99", "mode work cam,heat,radio,heat -",
 ]
 
 UNKNOWN = {
-    "drop mode nap": "nap", "drop command safe": "safe", "drop alarm go": "go", "drop row hop": "hop", "drop mode -": "-",
+    "drop mode nap": "nap", "drop command safe": "safe", "drop alarm go": "go", "drop row hop": "hop",
+    "drop mode -": "-",
     "drop mode cam,heat": "cam,heat", "drop row 2:go": "2:go", "unbar -": "", "unbar cam": "cam",
     "unbar cam,radio": "cam,radio", "unbar heat,cam": "heat,cam", "unbar cam,": "cam,", "unbar ,": ",",
     "unbar hot,ice": "hot,ice", "drop command Go": "Go",
 }
 
-WRONG_INPUTS = ["tick hot wait", "tick - do hop", "tick - do", "tick - run go", "tick low,cold wait", "tick cold,cold wait",
+WRONG_INPUTS = ["tick hot wait", "tick - do hop", "tick - do", "tick - run go", "tick low,cold wait",
+                "tick cold,cold wait",
                 "tick - go", "tick - wait wait", "tick - stop go", "tick wait -", "tick cold, wait", "tick -- wait",
-                "tick - do go go", "tick - do go off warm", "tick - Wait", "tick do go", "tick - do go -", "tick , wait",
+                "tick - do go go", "tick - do go off warm", "tick - Wait", "tick do go", "tick - do go -",
+                "tick , wait",
                 "tick - run", "tick stop stop", "tick low do wait"]
 
 
@@ -268,7 +273,8 @@ class PlayTest(unittest.TestCase):
         self.assertEqual(Session(made(SMALLEST)).play("\n"), ["error command"] * 2)
 
     def test_as_line_by_line(self):
-        lines = [*NO_FORM, *WRONG_BOOKS, *UNKNOWN, *WRONG_INPUTS, "quiet 7", "tick cold do go", "stand", "undo", "verdict"]
+        lines = [*NO_FORM, *WRONG_BOOKS, *UNKNOWN, *WRONG_INPUTS, "quiet 7", "tick cold do go", "stand", "undo",
+                 "verdict"]
         random.Random(1).shuffle(lines)
         one, other = Session(made(PLAIN)), Session(made(PLAIN))
         self.assertEqual(one.play("\n".join(lines)), [other.obey(line) for line in lines])

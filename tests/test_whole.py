@@ -22,8 +22,8 @@ from farword.steps import run_of
 from tests.plain import Plain, parts_by_chance
 from tests.samples import PLAIN, SMALLEST, made, parts_of
 
-FILES = ["errors", "books", "notation", "words", "memory", "triple", "steps", "closed", "rests", "alike", "plans", "log",
-         "craft", "letters", "ground", "link", "known", "desk", "report", "session"]
+FILES = ["errors", "books", "notation", "words", "memory", "triple", "steps", "closed", "rests", "alike", "plans",
+         "log", "craft", "letters", "ground", "link", "known", "desk", "report", "session"]
 
 
 class ErrorsTest(unittest.TestCase):
@@ -197,7 +197,8 @@ class PartsTest(unittest.TestCase):
     def test_books_do_not_change(self):
         book = made(PLAIN)
         before = parts_of(book)
-        for use in (reached, verdict, rest_bound, Desk, Session, format_book, lambda told: World(told, 3, 10, 1).settle(),
+        for use in (reached, verdict, rest_bound, Desk, Session, format_book,
+                    lambda told: World(told, 3, 10, 1).settle(),
                     lambda told: Craft(told, 10, 1).tick(("cold",), ("run", "plan"))):
             use(book)
             self.assertEqual(parts_of(book), before)
